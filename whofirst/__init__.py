@@ -1,0 +1,1 @@
+"""Things told by tables, and how many hands can agree by them."""
