@@ -58,6 +58,11 @@ def marks(table, choice):
     return True
 
 
+def keeps(table, choice):
+    every_order = orders(len(choice[1]) + len(choice[2]))
+    return marks(table, choice) and choice[0] not in [last_stand(table, choice, order) for order in every_order]
+
+
 def every_choice(table, many):
     """All choices for so many hands, whether alike or not."""
     for start in range(len(table[0])):

@@ -11,16 +11,19 @@ def tells_by(table, choice, ways):
 
 
 def first_choice(table, many, holds):
-    """The first choice for so many hands for which `holds` does by all orders, or None."""
+    """The first choice for so many hands for which `holds` does by all orders, or None; BadTable, BadMany."""
+    due = choices(table, many)
     ways = all_orders(many)
-    for choice in choices(table, many):
+    for choice in due:
         if holds(table, choice, ways):
             return choice
     return None
 
 
 def greatest(table, most, holds):
-    """The greatest count of hands, up to most, for which a choice is that holds."""
+    """The greatest count of hands, up to most, for which a choice is that holds; BadTable, BadMany."""
+    look_table(table)
+    look_many(most, 1)
     # What holds for so many hands holds for fewer, so the first count without a choice ends the search.
     many = 1
     while many < most and first_choice(table, many + 1, holds) is not None:
@@ -30,22 +33,16 @@ def greatest(table, most, holds):
 
 def telling(table, many):
     """The first choice for so many hands that tells, or None."""
-    look_table(table)
-    look_many(many, LEAST_HANDS)
     return first_choice(table, many, tells_by)
 
 
 def level(table, *, most=MOST_HANDS):
     """The level of a table, or most where it is greater."""
-    look_table(table)
-    look_many(most, 1)
     return greatest(table, most, tells_by)
 
 
 def mark_level(table, *, most=MOST_HANDS):
     """The mark level of a table, or most where it is greater."""
-    look_table(table)
-    look_many(most, 1)
     return greatest(table, most, marks_by)
 
 
