@@ -50,12 +50,42 @@ def bound_at_module_level(tree):
 
 def local_names(tree):
     names = {node.arg for node in ast.walk(tree) if isinstance(node, ast.arg)}
+    names |= {node.name for node in ast.walk(tree) if isinstance(node, ast.ExceptHandler) and node.name}
     for function in ast.walk(tree):
         if isinstance(function, ast.FunctionDef):
             for node in ast.walk(function):
                 if isinstance(node, ast.Name) and isinstance(node.ctx, ast.Store):
                     names.add(node.id)
     return names
+
+
+def own_functions():
+    """The names and trees of all methods of the package."""
+    found = []
+    for path in FILES:
+        for node in ast.walk(parsed(path)):
+            if isinstance(node, ast.ClassDef):
+                found += [(one.name, one) for one in node.body if isinstance(one, ast.FunctionDef)]
+    return found
+
+
+def assigned_attributes(tree):
+    found = [node for node in ast.walk(tree) if isinstance(node, ast.Attribute) and isinstance(node.ctx, ast.Store)]
+    return {node.attr for node in found}
+
+
+def bare_raises(tree):
+    """Those in handlers, which raise again what was caught."""
+    handlers = [node for node in ast.walk(tree) if isinstance(node, ast.ExceptHandler)]
+    return [node for one in handlers for node in ast.walk(one) if isinstance(node, ast.Raise) and node.exc is None]
+
+
+OWN_METHODS = {name for name, method in own_functions() if not name.startswith("_")}
+NO_ATTRIBUTES = set(
+    "items keys values pop update append clear extend insert remove reverse setdefault sort args encode decode hex "
+    "fromhex format".split()
+)
+BUILTIN_NAMES = {name for kind in (str, int, list, dict, set, bytes, tuple) for name in dir(kind)}
 
 
 class Files(unittest.TestCase):
@@ -163,7 +193,8 @@ class Expressions(unittest.TestCase):
         for path in FILES:
             for node in ast.walk(parsed(path)):
                 if isinstance(node, ast.Call) and isinstance(node.func, ast.Attribute):
-                    self.assertIn(node.func.attr, METHODS | {"__init__"}, (path.name, node.lineno))
+                    known = METHODS | OWN_METHODS | {"__init__"}
+                    self.assertIn(node.func.attr, known, (path.name, node.lineno))
 
     def test_no_generator_expression(self):
         # A class of the document has __eq__, and beside it any, all, min, max, sum and sorted take lists.
@@ -173,9 +204,63 @@ class Expressions(unittest.TestCase):
 
     def test_errors_are_made_where_they_are_raised(self):
         for path in FILES:
-            for node in ast.walk(parsed(path)):
-                if isinstance(node, ast.Raise):
+            tree = parsed(path)
+            for node in ast.walk(tree):
+                if isinstance(node, ast.Raise) and node not in bare_raises(tree):
                     self.assertIsInstance(node.exc, ast.Call, (path.name, node.lineno))
+
+
+class Classes(unittest.TestCase):
+    def test_methods_and_attributes_are_apart(self):
+        attributes = set()
+        for path in FILES:
+            attributes |= assigned_attributes(parsed(path))
+        self.assertEqual(attributes & OWN_METHODS, set())
+        self.assertEqual(attributes & NO_ATTRIBUTES, set())
+        self.assertEqual(OWN_METHODS & BUILTIN_NAMES, set())
+        for path in FILES:
+            for node in ast.walk(parsed(path)):
+                if isinstance(node, ast.Attribute) and not node.attr.startswith("__"):
+                    self.assertIn(node.attr, attributes | OWN_METHODS | METHODS, (path.name, node.lineno))
+
+    def test_double_underscore_methods(self):
+        allowed = {"__init__", "__eq__", "__len__"}
+        for name, method in own_functions():
+            if name.startswith("_"):
+                self.assertIn(name, allowed)
+            if name in ("__eq__", "__len__"):
+                kinds = (ast.Assign, ast.AugAssign, ast.For, ast.While)
+                for node in ast.walk(method):
+                    self.assertNotIsInstance(node, kinds, name)
+            if name == "__len__":
+                returned = method.body[-1].value
+                self.assertEqual((len(method.body), returned.func.id), (1, "len"))
+
+    def test_only_own_errors_are_caught(self):
+        own = set(bound_at_module_level(parsed(PACKAGE / "errors.py")))
+        for path in FILES:
+            for node in ast.walk(parsed(path)):
+                if isinstance(node, ast.ExceptHandler):
+                    caught = {one.id for one in ast.walk(node.type) if isinstance(one, ast.Name)}
+                    self.assertLessEqual(caught, own, path.name)
+
+    def test_finally_only_assigns_plain_values(self):
+        for path in FILES:
+            for node in ast.walk(parsed(path)):
+                for row in getattr(node, "finalbody", []):
+                    self.assertIsInstance(row, ast.Assign)
+                    self.assertIsInstance(row.value, ast.Constant)
+
+    def test_no_two_files_import_from_each_other(self):
+        imports = {}
+        for path in FILES:
+            named = [node.module for node in parsed(path).body if isinstance(node, ast.ImportFrom)]
+            imports[path.stem] = {module.split(".")[1] for module in named}
+        while imports:
+            ready = [name for name in imports if not imports[name] & set(imports)]
+            self.assertTrue(ready, imports)
+            for name in ready:
+                del imports[name]
 
 
 if __name__ == "__main__":

@@ -1,80 +1,23 @@
-"""What holds of the whole program ([1] and [2]), and the interface's names and arguments."""
+"""What holds of the whole program ([1] and [2])."""
 
 import copy
-import inspect
 import unittest
 
+from ask_refusals import answered
 from checks import Checks
 from samples import FLAG, SLOT, STICKY, WHEEL
 from scheme_samples import FLAG_LATE, FLAG_TWO, STUBBORN
-from whofirst import again, judge, levels, makers, schemes, tables, teams
-from whofirst.errors import BadChoice, BadMany, BadScheme, BadTable, NoOperation, NoScheme, NoStand, TooWide
+from slow_rolls import questions
+from slow_runs import QUESTIONS, whole_view
+from whofirst import again, judge, makers, schemes, tables, teams, texts
+from whofirst.errors import BadChoice, BadMany, BadScheme, BadTable, BadWishes, Busy, Ended, Idle, NoHand
+from whofirst.errors import NoOperation, NoScheme, NoStand, NothingLeft, Still, TooWide, Undone
 from whofirst.levels import level, mark_level, paper_holds, paper_of, telling
+from whofirst.rolls import Roll
+from whofirst.runs import Run
+from whofirst.towers import Tower
 
-ARGUMENTS = (
-    (tables.look_table, "(table)"),
-    (tables.stands_of, "(table)"),
-    (tables.done, "(table, stand, operation)"),
-    (tables.gone, "(table, stand, operations)"),
-    (tables.reached, "(table, stand)"),
-    (tables.table_text, "(table)"),
-    (tables.table_of, "(text)"),
-    (tables.with_operation, "(table, rows)"),
-    (tables.without, "(table, operation)"),
-    (tables.with_row, "(table, operation, stand, row)"),
-    (tables.turned, "(table, stands)"),
-    (tables.beside, "(one, other)"),
-    (teams.woven, "(table, choice, order)"),
-    (teams.orders, "(many)"),
-    (teams.seen, "(table, choice, hand)"),
-    (teams.clash, "(table, choice)"),
-    (teams.clash_holds, "(table, choice, paper)"),
-    (teams.marks, "(table, choice)"),
-    (teams.choices, "(table, many)"),
-    (levels.telling, "(table, many)"),
-    (levels.level, "(table, *, most=4)"),
-    (levels.mark_level, "(table, *, most=4)"),
-    (levels.paper_of, "(table, many)"),
-    (levels.paper_holds, "(table, many, paper)"),
-    (schemes.look_scheme, "(table, scheme)"),
-    (schemes.most_steps, "(code)"),
-    (judge.wholes, "(table, scheme, *, most=5000)"),
-    (judge.broken, "(table, scheme, *, most=5000)"),
-    (judge.weaving_holds, "(table, scheme, weaving)"),
-    (judge.agree_paper, "(table, scheme, *, most=5000)"),
-    (judge.agree_holds, "(table, scheme, paper)"),
-    (judge.can_come, "(table, scheme, weaving, *, most=5000)"),
-    (judge.last_open, "(table, scheme, *, most=5000)"),
-    (judge.read_off, "(table, scheme, *, most=5000)"),
-    (makers.made, "(table, many)"),
-    (again.keeps, "(table, choice)"),
-    (again.keeping, "(table, many)"),
-    (again.keep_level, "(table, *, most=4)"),
-    (again.made_again, "(table, many)"),
-    (again.broken_again, "(table, scheme, *, most=5000)"),
-    (again.again_holds, "(table, scheme, moves)"),
-)
 CHOICE = (0, (0,), (1,))
-
-
-class Interface(unittest.TestCase):
-    def test_arguments(self):
-        for function, due in ARGUMENTS:
-            self.assertEqual(str(inspect.signature(function)), due, function.__name__)
-
-    def test_by_name(self):
-        self.assertEqual(tables.done(operation=0, stand=1, table=FLAG), (1, 1))
-        self.assertEqual(tables.with_row(row=(5, 0), stand=1, operation=0, table=FLAG), (((0, 1), (5, 0)),))
-        self.assertEqual(teams.woven(order=(1,), choice=CHOICE, table=STICKY), ([2], 2))
-        self.assertIs(paper_holds(paper=("tells", CHOICE), many=2, table=STICKY), True)
-        self.assertEqual(mark_level(most=3, table=STICKY), 3)
-        self.assertEqual(judge.wholes(most=9, scheme=STUBBORN, table=SLOT), 1)
-        self.assertEqual(judge.can_come(most=99, weaving=[0, 0], scheme=FLAG_TWO, table=FLAG), [0])
-        self.assertIs(judge.weaving_holds(weaving=[], scheme=STUBBORN, table=SLOT), True)
-        self.assertIs(judge.agree_holds(paper=[], scheme=FLAG_TWO, table=FLAG), False)
-        self.assertIs(again.again_holds(moves=[], scheme=STUBBORN, table=SLOT), True)
-        self.assertEqual(len(makers.made(many=2, table=FLAG)[0]), 1)
-        self.assertEqual(len(again.made_again(many=3, table=STICKY)[0]), 2)
 
 
 class Agreeing(Checks):
@@ -176,6 +119,148 @@ class Lists(Checks):
         self.assertEqual(rows, [(0, 0), (0, 0)])
 
 
+def begun_run():
+    """Hand 0 has ended, hand 1 has stopped, hand 2 may go on, and a step of hand 2 was taken back."""
+    code = FLAG_TWO[1][0]
+    run = Run(FLAG, ((0,), (code, code, code)))
+    run.go([("step", 0), ("step", 1), ("step", 2), ("step", 0), ("stop", 1), ("step", 2)])
+    run.back()
+    return run
+
+
+def begun_rolls():
+    """A roll and a tower in which hand 0 was answered, hand 1 has asked, and hand 2 has asked and gone a little."""
+    found = [Roll(SLOT, 3), Tower(SLOT, STICKY, 3)]
+    for thing in found:
+        answered(thing, 0, 1)
+        thing.ask(1, 2)
+        thing.ask(2, 0)
+        thing.step(2)
+    return found
+
+
+def spoil(told):
+    """Change a list as its caller may."""
+    for one in told:
+        if isinstance(one, list):
+            one.append("inner")
+    told.reverse()
+    told.append("more")
+
+
+class Objects(Checks):
+    def test_told_lists_of_runs_are_new(self):
+        run = begun_run()
+        before = whole_view(run)
+        for name in (*QUESTIONS, "left"):
+            if name != "busy":
+                told = getattr(run, name)()
+                self.assertIsInstance(told, list)
+                due = copy.deepcopy(told)
+                spoil(told)
+                self.same(getattr(run, name)(), due)
+        self.same(whole_view(run), before)
+        spoil(run.go([("step", 2)]))
+        run.back()
+        self.same(whole_view(run), before)
+
+    def test_told_lists_of_a_run_change_no_twin(self):
+        run = begun_run()
+        other = run.twin()
+        before = whole_view(other)
+        for name in ("places", "stands", "words", "slots", "ended", "stopped", "log"):
+            spoil(getattr(run, name)())
+        self.same(whole_view(other), before)
+
+    def test_told_lists_of_rolls_and_towers_are_new(self):
+        for thing in begun_rolls():
+            before = questions(thing, 3)
+            self.assertIsInstance(thing.rows(), list)
+            self.assertGreater(len(thing.rows()), 0)
+            spoil(thing.rows())
+            self.same(questions(thing, 3), before)
+            while thing.pending(1) is not None:
+                thing.step(1)
+            self.same(len(thing.rows()), len(thing))
+
+    def test_what_is_handed_in_stays(self):
+        run = begun_run()
+        deeds = [("step", 2), ("step", 2)]
+        run.go(deeds)
+        self.same(deeds, [("step", 2), ("step", 2)])
+        log = run.log()
+        deeds.clear()
+        self.same(run.log(), log)
+        wrong = [("step", 9), ("step", 0)]
+        self.refused(Undone, run.go, wrong)
+        self.same(wrong, [("step", 9), ("step", 0)])
+        fresh = Run(FLAG, FLAG_TWO)
+        hands = [1, 0, 1]
+        fresh.finish(hands)
+        self.same(hands, [1, 0, 1])
+        log = fresh.log()
+        hands.reverse()
+        self.same(fresh.log(), log)
+
+    def test_what_could_be_changed_later_is_refused(self):
+        code = FLAG_TWO[1][0]
+        for scheme in ([(0,), (code, code)], ([0], (code, code)), ((0,), [code, code]), ((0,), (code, list(code)))):
+            self.refused(BadScheme, Run, FLAG, scheme)
+        self.refused(BadWishes, Run, FLAG, FLAG_TWO, wishes=["a", "b"])
+        for table in ([FLAG[0]], (list(FLAG[0]),), (([0, 1], [1, 1]),)):
+            self.refused(BadTable, Roll, table, 2)
+            self.refused(BadTable, Tower, table, FLAG, 2)
+            self.refused(BadTable, Tower, FLAG, table, 2)
+
+    def test_questions_change_nothing(self):
+        run = begun_run()
+        before = whole_view(run)
+        for number in range(2):
+            for name in (*QUESTIONS, "left", "twin"):
+                getattr(run, name)()
+            self.assertEqual(len(run), 5)
+            self.assertTrue(run == run.twin())
+            self.same(whole_view(run), before)
+        for thing, fresh in zip(begun_rolls(), begun_rolls()):
+            for number in range(3):
+                questions(thing, 3)
+            told = [thing.step(2) for step in range(2)]
+            self.same(told, [fresh.step(2) for step in range(2)])
+            self.same(questions(thing, 3), questions(fresh, 3))
+
+    def test_refusals_change_nothing(self):
+        run = begun_run()
+        before = whole_view(run)
+        for error, call, given in (
+            (Ended, run.step, (0,)), (Still, run.step, (1,)), (NoHand, run.step, (3,)), (Ended, run.stop, (0,)),
+            (Still, run.stop, (1,)), (NoHand, run.stop, (-1,)), (Undone, run.go, ([("step", 2), ("step", 1)],)),
+            (Still, run.finish, ([2, 1],)), (Ended, run.deed, (("step", 0),)),
+        ):
+            self.refused(error, call, *given)
+            self.same(whole_view(run), before)
+        self.refused(TooWide, run.left, most=1)
+        self.refused(BadMany, run.left, most=0)
+        self.same(whole_view(run), before)
+        for thing in begun_rolls():
+            before = questions(thing, 3)
+            for error, call, given in (
+                (NoHand, thing.ask, (3, 0)), (Busy, thing.ask, (1, 0)), (NoOperation, thing.ask, (0, 3)),
+                (NoHand, thing.step, (3,)), (Idle, thing.step, (0,)), (NoHand, thing.stand, (-1,)),
+            ):
+                self.refused(error, call, *given)
+                self.same(questions(thing, 3), before)
+
+    def test_things_of_one_table_do_not_mix(self):
+        one, other = begun_run(), begun_run()
+        before = whole_view(other)
+        one.finish([2])
+        self.same(whole_view(other), before)
+        for one, other in zip(begun_rolls(), begun_rolls()):
+            before = questions(other, 3)
+            one.step(1)
+            self.same(questions(other, 3), before)
+
+
 class Refusals(Checks):
     def test_true_and_false_are_no_numbers(self):
         self.refused_at(0, BadTable, level, (((False, True), (True, True)),))
@@ -220,6 +305,27 @@ class Refusals(Checks):
         self.refused(BadMany, again.made_again, FLAG, 9)
         self.refused(NoScheme, again.made_again, FLAG, 2)
         self.refused(BadTable, again.keeps, bad, ())
+        self.refused(BadTable, texts.choice_text, bad, ())
+        self.refused(BadTable, texts.scheme_text, bad, ())
+
+    def test_the_first_named_one_comes_of_runs_rolls_and_towers(self):
+        bad = ()
+        self.refused(BadTable, Run, bad, (), wishes=())
+        self.refused(BadScheme, Run, FLAG, (), wishes=())
+        self.refused(BadWishes, Run, FLAG, FLAG_TWO, wishes=())
+        self.refused(BadTable, Roll, bad, 9, start=9)
+        self.refused(NoStand, Roll, FLAG, 9, start=9)
+        self.refused(BadMany, Roll, FLAG, 9, start=1)
+        self.refused_at(0, BadTable, Tower, bad, (*FLAG, ()), 9)
+        self.refused(NoStand, Tower, FLAG, bad, 9, start=9)
+        self.refused_at(1, BadTable, Tower, FLAG, (*FLAG, ()), 9)
+        self.refused(BadMany, Tower, FLAG, SLOT, 9, start=1)
+        self.refused(NoScheme, Tower, FLAG, SLOT, 2, start=1)
+        for thing in begun_rolls():
+            self.refused(NoHand, thing.ask, 3, 9)
+            self.refused(Busy, thing.ask, 1, 9)
+        self.refused(BadMany, Run(FLAG, FLAG_TWO).left, most=0)
+        self.refused(NothingLeft, Run(FLAG, FLAG_TWO).back)
 
     def test_a_refusal_changes_nothing(self):
         before = (level(FLAG), paper_of(FLAG, 3), teams.orders(2), teams.choices(FLAG, 2))

@@ -51,9 +51,9 @@ def moves_to_first(came, is_sought):
     return None
 
 
-def steps_from(table, scheme, whole):
-    """The pairs of a hand that has not ended and the whole behind its step."""
-    hands = [hand for hand in range(len(scheme[1])) if not has_ended(scheme, whole, hand)]
+def steps_from(table, scheme, whole, still=()):
+    """The pairs of a hand that has not ended, and is not still, and the whole behind its step."""
+    hands = [hand for hand in range(len(scheme[1])) if hand not in still and not has_ended(scheme, whole, hand)]
     return [(hand, stepped(table, scheme, whole, hand)) for hand in hands]
 
 
@@ -62,10 +62,15 @@ def is_unlike(scheme, whole):
     return len(end_words(scheme, whole)) > 1
 
 
-def wholes_from(table, scheme, first, most):
-    """All wholes that can be come to from one, as spread tells; all but most is looked at already."""
+def wholes_from(table, scheme, first, most, still=()):
+    """All wholes that can be come to from one while some hands are still, as spread tells; BadMany, TooWide."""
     look_most(most)
-    return spread(first, lambda whole: steps_from(table, scheme, whole), most)
+    return spread(first, lambda whole: steps_from(table, scheme, whole, still), most)
+
+
+def words_of(scheme, came):
+    """The words with which some hand has ended in one of these wholes, rising."""
+    return sorted(set([word for whole in came for word in end_words(scheme, whole)]))
 
 
 def all_wholes(table, scheme, most):
@@ -136,8 +141,7 @@ def can_come(table, scheme, weaving, *, most=MOST_WHOLES):
     for hand in weaving:
         if may_step(scheme, here, hand):
             here = stepped(table, scheme, here, hand)
-    came = wholes_from(table, scheme, here, most)
-    return sorted(set([word for whole in came for word in end_words(scheme, whole)]))
+    return words_of(scheme, wholes_from(table, scheme, here, most))
 
 
 def all_coming(table, scheme, came):
